@@ -1,0 +1,1 @@
+"""Fairdraw: exact shares of what is drawn."""

@@ -1,0 +1,196 @@
+"""The package keeps to its part of the language: those of the rules L1 to L28 that a walk of the code can see."""
+
+import ast
+import builtins
+import re
+import unittest
+from pathlib import Path
+
+PACKAGE = Path(__file__).resolve().parent.parent / "fairdraw"
+OWN_NAMES = set(
+    "len range enumerate zip min max sum abs sorted reversed int str bool list tuple dict set frozenset isinstance "
+    "ord repr any all divmod Exception ValueError TypeError KeyError IndexError LookupError ZeroDivisionError "
+    "ArithmeticError OverflowError RuntimeError NotImplementedError AttributeError StopIteration".split()
+)
+METHODS = set(
+    "append clear copy count endswith extend find get index insert isalnum isalpha isdigit islower isspace isupper "
+    "items join keys ljust lower lstrip partition pop remove replace reverse rfind rjust rpartition rsplit rstrip "
+    "setdefault split splitlines startswith strip update upper values zfill bit_length __init__".split()
+)
+SPECIAL = {"__init__", "__eq__", "__repr__", "__str__", "__len__"}
+WORDS = re.compile(
+    r"\b(type|typing|typing_extensions|enum|Enum|IntEnum|StrEnum|Flag|IntFlag|Generic|Protocol|ABC|ABCMeta|namedtuple"
+    r"|NamedTuple|TypedDict|TYPE_CHECKING|abstractmethod)\b|dataclass|overload|contextmanager"
+)
+STATEMENTS = (
+    ast.Module, ast.FunctionDef, ast.ClassDef, ast.ImportFrom, ast.Assign, ast.AugAssign, ast.If, ast.While, ast.For,
+    ast.Return, ast.Break, ast.Continue, ast.Pass, ast.Raise, ast.Try, ast.ExceptHandler, ast.Expr,
+)
+EXPRESSIONS = (
+    ast.Constant, ast.List, ast.Tuple, ast.Dict, ast.Set, ast.BinOp, ast.UnaryOp, ast.BoolOp, ast.Compare, ast.IfExp,
+    ast.Call, ast.Attribute, ast.Subscript, ast.Slice, ast.ListComp, ast.JoinedStr, ast.FormattedValue, ast.Name,
+    ast.Lambda,
+)
+SMALL_PARTS = (
+    ast.operator, ast.unaryop, ast.boolop, ast.cmpop, ast.expr_context, ast.arguments, ast.arg, ast.keyword,
+    ast.alias, ast.comprehension,
+)
+
+
+def files():
+    return sorted(PACKAGE.rglob("*.py"))
+
+
+def trees():
+    return [(path, ast.parse(path.read_text())) for path in files()]
+
+
+def module_name(path):
+    return ".".join(path.relative_to(PACKAGE.parent).with_suffix("").parts)
+
+
+def bound_names(tree):
+    """All names that a file binds, in whatever place."""
+    found = []
+    for node in ast.walk(tree):
+        if isinstance(node, (ast.FunctionDef, ast.ClassDef)):
+            found.append(node.name)
+        if isinstance(node, ast.arg):
+            found.append(node.arg)
+        if isinstance(node, ast.Name) and isinstance(node.ctx, ast.Store):
+            found.append(node.id)
+        if isinstance(node, ast.alias):
+            found.append(node.asname or node.name)
+        if isinstance(node, ast.ExceptHandler) and node.name:
+            found.append(node.name)
+    return found
+
+
+def top_names(tree):
+    found = []
+    for node in tree.body:
+        if isinstance(node, (ast.FunctionDef, ast.ClassDef)):
+            found.append(node.name)
+        if isinstance(node, ast.Assign):
+            found.extend(target.id for target in node.targets)
+    return found
+
+
+class Files(unittest.TestCase):
+    def test_nothing_but_modules(self):
+        self.assertTrue((PACKAGE / "__init__.py").is_file())
+        for path in PACKAGE.rglob("*"):
+            if "__pycache__" not in path.parts:
+                self.assertRegex(path.name, r"\A[a-z0-9_]+\.py\Z")
+
+    def test_sizes_and_signs(self):
+        for path in files():
+            text = path.read_text()
+            self.assertLessEqual(len(text.splitlines()), 400, path)
+            for number, row in enumerate(text.split("\n"), start=1):
+                with self.subTest(path=path.name, row=number):
+                    self.assertLessEqual(len(row), 120)
+                    self.assertRegex(row, r"\A[ -~]*\Z")
+                    self.assertIsNone(WORDS.search(row))
+
+    def test_functions_are_short(self):
+        for path, tree in trees():
+            for node in ast.walk(tree):
+                if isinstance(node, ast.FunctionDef):
+                    self.assertLessEqual(node.end_lineno - node.lineno + 1, 40, (path.name, node.name))
+
+
+class Imports(unittest.TestCase):
+    def test_from_the_file_that_defines_the_name(self):
+        defined = {module_name(path): top_names(tree) for path, tree in trees()}
+        for path, tree in trees():
+            for node in ast.walk(tree):
+                if isinstance(node, ast.ImportFrom):
+                    self.assertIn(node, tree.body, path)
+                    self.assertEqual(node.level, 0, path)
+                    for alias in node.names:
+                        self.assertIn(alias.name, defined[node.module], path)
+
+    def test_no_circle(self):
+        drawn = {
+            module_name(path): [node.module for node in tree.body if isinstance(node, ast.ImportFrom)]
+            for path, tree in trees()
+        }
+        while drawn:
+            free = [name for name in drawn if not any(other in drawn for other in drawn[name])]
+            self.assertTrue(free, drawn)
+            drawn = {name: drawn[name] for name in drawn if name not in free}
+
+
+class Forms(unittest.TestCase):
+    def test_known_forms_alone(self):
+        for path, tree in trees():
+            for node in ast.walk(tree):
+                with self.subTest(path=path.name, row=getattr(node, "lineno", 0)):
+                    self.assertIsInstance(node, STATEMENTS + EXPRESSIONS + SMALL_PARTS)
+                    self.check_node(node)
+
+    def check_node(self, node):
+        if isinstance(node, (ast.FunctionDef, ast.ClassDef)):
+            self.assertEqual(node.decorator_list, [])
+        if isinstance(node, ast.arguments):
+            self.assertIsNone(node.vararg or node.kwarg)
+            self.assertEqual(node.kwonlyargs + node.posonlyargs, [])
+        if isinstance(node, ast.Assign):
+            self.assertEqual([target.__class__ for target in node.targets if isinstance(target, ast.Tuple)], [])
+            self.assertEqual(len(node.targets), 1)
+        if isinstance(node, (ast.For, ast.While)):
+            self.assertEqual(node.orelse, [])
+        if isinstance(node, ast.Try):
+            self.assertEqual(node.finalbody, [])
+        if isinstance(node, (ast.BinOp, ast.AugAssign)):
+            self.assertNotIsInstance(node.op, (ast.Div, ast.MatMult))
+        if isinstance(node, ast.ListComp):
+            self.assertEqual(len(node.generators), 1)
+            self.assertLessEqual(len(node.generators[0].ifs), 1)
+        if isinstance(node, ast.Compare):
+            for sign, thing in zip(node.ops, node.comparators):
+                if isinstance(sign, (ast.Is, ast.IsNot)):
+                    self.assertIn(ast.unparse(thing), ("None", "True", "False"))
+        if isinstance(node, ast.Constant):
+            self.assertIn(node.value.__class__.__name__, ("int", "str", "bool", "NoneType"))
+            self.assertNotIn("%", str(node.value))
+
+    def test_top_of_a_file(self):
+        for path, tree in trees():
+            names = top_names(tree)
+            self.assertEqual(len(names), len(set(names)), path)
+            for node in tree.body[1:]:
+                self.assertIsInstance(node, (ast.ImportFrom, ast.FunctionDef, ast.ClassDef, ast.Assign), path)
+            self.assertIsNotNone(ast.get_docstring(tree), path)
+
+
+class Names(unittest.TestCase):
+    def test_python_s_own_names(self):
+        for path, tree in trees():
+            bound = set(bound_names(tree))
+            for node in ast.walk(tree):
+                if isinstance(node, ast.Name) and isinstance(node.ctx, ast.Load):
+                    self.assertIn(node.id, bound | OWN_NAMES, path)
+
+    def test_plain_and_with_no_other_meaning(self):
+        for path, tree in trees():
+            for name in bound_names(tree):
+                if name not in SPECIAL:
+                    self.assertRegex(name, r"\A[A-Za-z][A-Za-z0-9_]*\Z", path)
+                    self.assertFalse(hasattr(builtins, name), (path, name))
+
+    def test_methods(self):
+        own = set()
+        for path, tree in trees():
+            for node in ast.walk(tree):
+                if isinstance(node, ast.ClassDef):
+                    own.update(item.name for item in node.body if isinstance(item, ast.FunctionDef))
+        for path, tree in trees():
+            for node in ast.walk(tree):
+                if isinstance(node, ast.Call) and isinstance(node.func, ast.Attribute):
+                    self.assertIn(node.func.attr, own | METHODS, path)
+
+
+if __name__ == "__main__":
+    unittest.main()
