@@ -1,4 +1,4 @@
-"""The package keeps to its part of the language: those of the rules L1 to L28 that a walk of the code can see."""
+"""The package keeps to its part of the language: some of the rules L1 to L28, not all of them."""
 
 import ast
 import builtins
