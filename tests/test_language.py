@@ -17,6 +17,9 @@ METHODS = set(
     "items join keys ljust lower lstrip partition pop remove replace reverse rfind rjust rpartition rsplit rstrip "
     "setdefault split splitlines startswith strip update upper values zfill bit_length __init__".split()
 )
+PYTHON_VALUES = ("", 0, [], (), {}, set(), b"")
+FREE_METHODS = METHODS | {"add", "discard"}
+FREE_VALUES = set("count index title find get join lower upper split strip copy add".split())
 SPECIAL = {"__init__", "__eq__", "__repr__", "__str__", "__len__"}
 WORDS = re.compile(
     r"\b(type|typing|typing_extensions|enum|Enum|IntEnum|StrEnum|Flag|IntFlag|Generic|Protocol|ABC|ABCMeta|namedtuple"
@@ -74,6 +77,22 @@ def top_names(tree):
         if isinstance(node, ast.Assign):
             found.extend(target.id for target in node.targets)
     return found
+
+
+def own_methods(tree):
+    """The names of all methods that a file's classes define."""
+    found = []
+    for node in ast.walk(tree):
+        if isinstance(node, ast.ClassDef):
+            found.extend(item.name for item in node.body if isinstance(item, ast.FunctionDef))
+    return found
+
+
+def own_values(tree):
+    """The names of all values that a file gives to objects."""
+    return [
+        node.attr for node in ast.walk(tree) if isinstance(node, ast.Attribute) and isinstance(node.ctx, ast.Store)
+    ]
 
 
 class Files(unittest.TestCase):
@@ -181,15 +200,42 @@ class Names(unittest.TestCase):
                     self.assertFalse(hasattr(builtins, name), (path, name))
 
     def test_methods(self):
-        own = set()
-        for path, tree in trees():
-            for node in ast.walk(tree):
-                if isinstance(node, ast.ClassDef):
-                    own.update(item.name for item in node.body if isinstance(item, ast.FunctionDef))
+        own = {name for path, tree in trees() for name in own_methods(tree)}
         for path, tree in trees():
             for node in ast.walk(tree):
                 if isinstance(node, ast.Call) and isinstance(node.func, ast.Attribute):
                     self.assertIn(node.func.attr, own | METHODS, path)
+
+    def test_no_name_is_a_method_and_a_value(self):
+        methods = {name for path, tree in trees() for name in own_methods(tree)}
+        values = {name for path, tree in trees() for name in own_values(tree)}
+        self.assertEqual(methods & values, set())
+
+    def test_methods_are_called_where_they_stand(self):
+        methods = {name for path, tree in trees() for name in own_methods(tree)} | METHODS
+        for path, tree in trees():
+            called = [node.func for node in ast.walk(tree) if isinstance(node, ast.Call)]
+            for node in ast.walk(tree):
+                if isinstance(node, ast.Attribute) and node.attr in methods:
+                    self.assertIn(node, called, (path, node.attr))
+
+    def test_own_names_are_not_python_s(self):
+        taken = {name for value in PYTHON_VALUES for name in dir(value)} | {"args", "sort", "encode", "format"}
+        for path, tree in trees():
+            for name in own_methods(tree):
+                self.assertNotIn(name, taken - FREE_METHODS - SPECIAL, path)
+            for name in own_values(tree):
+                self.assertNotIn(name, taken - FREE_VALUES, path)
+
+    def test_no_local_is_called_like_a_class_or_an_import(self):
+        for path, tree in trees():
+            taken = [node.name for node in tree.body if isinstance(node, ast.ClassDef)]
+            for node in tree.body:
+                if isinstance(node, ast.ImportFrom):
+                    taken.extend(alias.name for alias in node.names)
+            names = bound_names(tree)
+            for name in taken:
+                self.assertEqual(names.count(name), 1, (path, name))
 
 
 if __name__ == "__main__":
