@@ -39,6 +39,13 @@ SMALL_PARTS = (
     ast.alias, ast.comprehension,
 )
 
+WALKED_AT_ONCE = {"zip", "enumerate", "reversed", "range", "items", "keys", "values"}
+WALKING = {"list", "tuple", "dict", "sorted", "sum", "any", "all", "enumerate", "zip"}
+KEYWORDS = {
+    "sorted": {"key", "reverse"}, "min": {"key", "default"}, "max": {"key", "default"}, "sum": {"start"},
+    "enumerate": {"start"}, "zip": {"strict"},
+}
+
 
 def files():
     return sorted(PACKAGE.rglob("*.py"))
@@ -93,6 +100,18 @@ def own_values(tree):
     return [
         node.attr for node in ast.walk(tree) if isinstance(node, ast.Attribute) and isinstance(node.ctx, ast.Store)
     ]
+
+
+def parents(tree):
+    """A dict from each node to the one that it stands in."""
+    return {child: node for node in ast.walk(tree) for child in ast.iter_child_nodes(node)}
+
+
+def called_name(node):
+    """What a call calls, of a method its last name; None where a node is no call."""
+    if not isinstance(node, ast.Call):
+        return None
+    return node.func.attr if isinstance(node.func, ast.Attribute) else getattr(node.func, "id", None)
 
 
 class Files(unittest.TestCase):
@@ -182,6 +201,44 @@ class Forms(unittest.TestCase):
             for node in tree.body[1:]:
                 self.assertIsInstance(node, (ast.ImportFrom, ast.FunctionDef, ast.ClassDef, ast.Assign), path)
             self.assertIsNotNone(ast.get_docstring(tree), path)
+
+
+class Uses(unittest.TestCase):
+    def test_sets_are_not_kept(self):
+        for path, tree in trees():
+            above = parents(tree)
+            for node in ast.walk(tree):
+                if isinstance(node, ast.Set) or called_name(node) in ("set", "frozenset"):
+                    parent = above[node]
+                    while isinstance(parent, ast.BinOp):
+                        self.assertIsInstance(parent.op, (ast.Sub, ast.BitAnd, ast.BitOr, ast.BitXor), path)
+                        parent = above[parent]
+                    if not isinstance(parent, ast.Compare):
+                        self.assertIn(called_name(parent), ("sorted", "len"), (path, node.lineno))
+                        self.assertEqual(parent.keywords, [])
+
+    def test_walked_on_the_spot(self):
+        for path, tree in trees():
+            above = parents(tree)
+            for node in ast.walk(tree):
+                if called_name(node) in WALKED_AT_ONCE:
+                    parent = above[node]
+                    if isinstance(parent, (ast.For, ast.comprehension)):
+                        self.assertIs(parent.iter, node, (path, node.lineno))
+                    elif called_name(parent) in ("min", "max"):
+                        self.assertEqual(len(parent.args), 1, (path, node.lineno))
+                    else:
+                        self.assertIn(called_name(parent), WALKING, (path, node.lineno))
+                        self.assertIs(parent.args[0], node, (path, node.lineno))
+
+    def test_written_exponents_and_keywords(self):
+        for path, tree in trees():
+            for node in ast.walk(tree):
+                if isinstance(node, (ast.BinOp, ast.AugAssign)) and isinstance(node.op, ast.Pow):
+                    self.assertIn(ast.unparse(node.right), [str(number) for number in range(65)], (path, node.lineno))
+                if isinstance(node, ast.Call):
+                    for keyword in node.keywords:
+                        self.assertIn(keyword.arg, KEYWORDS.get(called_name(node), ()), (path, node.lineno))
 
 
 class Names(unittest.TestCase):
