@@ -34,7 +34,13 @@ def fraction(top, bottom):
 
 def plus(one, other):
     """The sum of two fractions."""
-    return fraction(one[0] * other[1] + other[0] * one[1], one[1] * other[1])
+    common = divisor(one[1], other[1])
+    own = one[1] // common
+    others = other[1] // common
+    # a number that divides one bottom alone does not divide the sum, so only what is common to both can go;
+    # to seek it there is quicker than in the whole sum
+    rest = fraction(one[0] * others + other[0] * own, common)
+    return (rest[0], rest[1] * own * others)
 
 
 def minus(one, other):
@@ -44,7 +50,11 @@ def minus(one, other):
 
 def times(one, other):
     """The product of two fractions."""
-    return fraction(one[0] * other[0], one[1] * other[1])
+    # each is in lowest terms, so a top has something in common with the other's bottom alone;
+    # to seek it there is quick where one of the two is small
+    left = fraction(one[0], other[1])
+    right = fraction(other[0], one[1])
+    return (left[0] * right[0], left[1] * right[1])
 
 
 def over(one, other):

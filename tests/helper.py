@@ -3,6 +3,7 @@
 All is written by the words of the document alone; nothing here draws from the package.
 """
 
+import itertools
 import random
 from fractions import Fraction
 
@@ -108,6 +109,17 @@ def least_ways(rows, parts):
     return many
 
 
+def drawn(name, *numbers):
+    """The text of a draw of these values, each as likely as the others."""
+    outcomes = ", ".join(f"{number} by 1/{len(numbers)}" for number in numbers)
+    return f"draw {name}: {outcomes}\n"
+
+
+def even(name, many, begin=0):
+    """The text of a draw of so many values, one behind the other."""
+    return drawn(name, *range(begin, begin + many))
+
+
 def part_of(parts, name):
     return [part for part in parts if part[0] == name][0]
 
@@ -168,3 +180,100 @@ def plain_shares(program):
         return None
     found = [(values, share / whole) for values, share in sorted(shares.items())]
     return [(values, (share.numerator, share.denominator)) for values, share in found]
+
+
+def plain_names(e):
+    """The set of names that an expression reads."""
+    if e[0] in ("num", "name"):
+        return {e[1]} if e[0] == "name" else set()
+    return set().union(*[plain_names(side) for side in e[1:]])
+
+
+def plain_choices(row, found):
+    """All books of the names that a let or seen row reads, each standing for any of its kinds."""
+    names = sorted(plain_names(row[-1]))
+    return [dict(zip(names, numbers)) for numbers in itertools.product(*[found[name] for name in names])]
+
+
+def plain_kinds(sheet):
+    """The kinds of a sheet's values, and the most choices that a row has."""
+    found = {}
+    many = [1]
+    for row in sheet[1]:
+        if row[0] == "draw":
+            found[row[1]] = sorted(number for number, share in row[2])
+            continue
+        books = plain_choices(row, found)
+        many.append(len(books))
+        if row[0] == "let":
+            found[row[1]] = sorted({plain_value(row[2], book) for book in books})
+    return found, max(many)
+
+
+def plain_table(row, found):
+    """The table of a row of a sheet whose values have these kinds."""
+    if row[0] == "draw":
+        return ((row[1],), sorted(((number,), share) for number, share in row[2]))
+    books = plain_choices(row, found)
+    names = plain_names(row[-1])
+    if row[0] == "let":
+        names.add(row[1])
+        books = [{**book, row[1]: plain_value(row[2], book)} for book in books]
+    else:
+        books = [book for book in books if plain_value(row[1], book)]
+    in_order = tuple(sorted(names))
+    return (in_order, sorted((tuple(book[name] for name in in_order), (1, 1)) for book in books))
+
+
+def plain_joined(one, other):
+    """Two tables joined by pairs of rows: the names, and a dict of shares."""
+    names = tuple(sorted(set(one[0]) | set(other[0])))
+    shares = {}
+    for values, share in one[1]:
+        for others, more in other[1]:
+            book = dict(zip(one[0], values))
+            if all(book.get(name, value) == value for name, value in zip(other[0], others)):
+                book.update(zip(other[0], others))
+                shares[tuple(book[name] for name in names)] = Fraction(*share) * Fraction(*more)
+    return names, shares
+
+
+def plain_pushed(names, shares, gone):
+    """The table of names and shares without those that are gone."""
+    rest = [place for place, name in enumerate(names) if name not in gone]
+    sums = {}
+    for values, share in shares.items():
+        kept = tuple(values[place] for place in rest)
+        sums[kept] = sums.get(kept, 0) + share
+    rows = [(values, (share.numerator, share.denominator)) for values, share in sorted(sums.items())]
+    return (tuple(names[place] for place in rest), rows)
+
+
+def plain_best_order(scopes, keep):
+    """The best order, the scopes made one each time."""
+    scopes = [set(scope) for scope in scopes]
+    order = []
+    while True:
+        left = {name for scope in scopes for name in scope if name not in keep and name not in order}
+        if not left:
+            return order
+        name = min(sorted(left), key=lambda one: len(set().union(*[scope for scope in scopes if one in scope])))
+        together = set().union(*[scope for scope in scopes if name in scope])
+        scopes = [scope for scope in scopes if name not in scope] + [together - {name}]
+        order.append(name)
+
+
+def plain_node(tell, counts, answers=()):
+    """The node of a function of lists of answers: ("leaf", value), or a question and a tuple of nodes."""
+    question = len(answers)
+    if question == len(counts):
+        return ("leaf", tell(list(answers)))
+    below = tuple(plain_node(tell, counts, answers + (answer,)) for answer in range(counts[question]))
+    return below[0] if len(set(below)) == 1 else (question, below)
+
+
+def plain_nodes(node):
+    """The set of all nodes to which one comes from a node, itself too."""
+    if node[0] == "leaf":
+        return {node}
+    return {node}.union(*[plain_nodes(other) for other in node[1]])

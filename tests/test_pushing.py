@@ -8,6 +8,7 @@ from fractions import Fraction
 
 from fairdraw.errors import TooMany
 from fairdraw.pushing import all_pushed, best_order
+from helper import plain_best_order, plain_joined, plain_pushed
 
 ONE = ((), [((), (1, 1))])
 # a coin a, b that hangs on a, c that hangs on b
@@ -21,30 +22,6 @@ CHAIN = [
 def wide(name, many, below=0):
     """A table of one name and many values."""
     return ((name,), [((number - below,), (1, 1)) for number in range(many)])
-
-
-def plain_joined(one, other):
-    """By pairs of rows."""
-    names = tuple(sorted(set(one[0]) | set(other[0])))
-    shares = {}
-    for values, share in one[1]:
-        for others, more in other[1]:
-            book = dict(zip(one[0], values))
-            if all(book.get(name, value) == value for name, value in zip(other[0], others)):
-                book.update(zip(other[0], others))
-                shares[tuple(book[name] for name in names)] = Fraction(*share) * Fraction(*more)
-    return names, shares
-
-
-def plain_pushed(names, shares, gone):
-    """By sums of shares."""
-    rest = [place for place, name in enumerate(names) if name not in gone]
-    sums = {}
-    for values, share in shares.items():
-        kept = tuple(values[place] for place in rest)
-        sums[kept] = sums.get(kept, 0) + share
-    rows = [(values, (share.numerator, share.denominator)) for values, share in sorted(sums.items())]
-    return (tuple(names[place] for place in rest), rows)
 
 
 def plain_all_pushed(tables, order):
@@ -63,20 +40,6 @@ def strewn_tables(chance):
         rows = [values for values in itertools.product([-1, 0, 10 ** 59], repeat=len(names)) if chance.randrange(5)]
         tables.append((names, [(values, (chance.randrange(1, 4), 1)) for values in rows]))
     return tables
-
-
-def slow_best_order(scopes, keep):
-    """By the document's words, the scopes made one each time."""
-    scopes = [set(scope) for scope in scopes]
-    order = []
-    while True:
-        left = {name for scope in scopes for name in scope if name not in keep and name not in order}
-        if not left:
-            return order
-        name = min(sorted(left), key=lambda one: len(set().union(*[scope for scope in scopes if one in scope])))
-        together = set().union(*[scope for scope in scopes if name in scope])
-        scopes = [scope for scope in scopes if name not in scope] + [together - {name}]
-        order.append(name)
 
 
 class AllPushed(unittest.TestCase):
@@ -253,7 +216,7 @@ class BestOrder(unittest.TestCase):
 
     def test_scopes_become_one(self):
         scopes = [["a", "b"], ["a", "c"], ["a", "d"], ["b", "e", "f", "g"], ["c", "e", "f", "g"], ["d", "e", "f", "g"]]
-        self.check(scopes, [], slow_best_order(scopes, []))
+        self.check(scopes, [], plain_best_order(scopes, []))
         # behind d and b, a stands with c alone, as c does with a and e
         self.check([["a", "b"], ["a", "c"], ["b", "d"], ["c", "e"]], [], ["d", "b", "a", "c", "e"])
         self.check([["a", "b"], ["a", "c"], ["b", "d", "x"], ["c", "d", "x"]], ["x"], ["a", "b", "c", "d"])
@@ -292,7 +255,7 @@ class BestOrder(unittest.TestCase):
             scopes = [chance.sample(names, chance.randrange(5)) for number in range(chance.randrange(9))]
             keep = chance.sample(names + ["q"], chance.randrange(4))
             with self.subTest(scopes=scopes, keep=keep):
-                self.check(scopes, keep, slow_best_order(scopes, keep))
+                self.check(scopes, keep, plain_best_order(scopes, keep))
 
     def test_four_hundred_scopes(self):
         scopes = [[f"v{number}"] + [f"v{max(0, number - back)}" for back in (1, 2, 7)] for number in range(400)]
