@@ -40,7 +40,16 @@ class Graph:
 
     def met(self, sign, nodes):
         """The node of nodes under a sign."""
-        return self.within_most(Meeting(self, sign).meet(tuple(nodes)))
+        some = list(nodes)
+        if sign == "pick":
+            # where a choice is sure, whatever number it is, only the side that is taken need be gone through
+            some[0] = self.truth(some[0])
+        return self.within_most(Meeting(self, sign).meet(tuple(some)))
+
+    def truth(self, node):
+        """The node that tells 0 where a node does, else 1; its size is never above that one's."""
+        turned = Meeting(self, "not").meet((node,))
+        return Meeting(self, "not").meet((turned,))
 
     def within_most(self, node):
         """The node, if it is not too great."""

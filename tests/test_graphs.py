@@ -510,6 +510,19 @@ class ManyQuestions(GraphCase):
         found = graph.met("pick", [coin] + sides)
         self.assertEqual([graph.child(found, 0), graph.child(found, 1)], sides[::-1])
 
+    def test_a_pick_whose_choice_is_sure(self):
+        # three sums by turns, the first of them never 0: to go through all three at once would take millions of steps
+        graph = Graph([6] * 36)
+        sums = []
+        for begin in range(3):
+            so_far = graph.leaf(1)
+            for number in range(begin, 36, 3):
+                so_far = graph.met("+", [so_far, graph.ask(number, [graph.leaf(answer) for answer in range(6)])])
+            sums.append(so_far)
+        self.assertEqual([graph.size(node) for node in sums], [403] * 3)
+        self.assertEqual(graph.met("pick", sums), sums[1])
+        self.assertEqual(graph.met("pick", [graph.met("<", [sums[0], graph.leaf(0)])] + sums[1:]), sums[2])
+
 
 if __name__ == "__main__":
     unittest.main()
