@@ -83,15 +83,22 @@ class Strewer:
 
 
 def strewn(many, bound=400):
-    """So many programs of at most so many ways to walk."""
+    """So many programs of at most so many ways to walk, and of at most 5 blocks within one another."""
     found = []
     seed = 0
     while len(found) < many:
         program = Strewer(seed).program()
-        if least_ways(program[1], program[0]) <= bound:
+        deepest = max(depth_of(rows) for rows in [program[1]] + [part[2] for part in program[0]])
+        if deepest <= 5 and least_ways(program[1], program[0]) <= bound:
             found.append(program)
         seed += 1
     return found
+
+
+def depth_of(rows):
+    """How many blocks stand within one another at most."""
+    blocks = [row for row in rows if row[0] in ("if", "rounds")]
+    return max([1 + depth_of(some) for row in blocks for some in row[2:]], default=0)
 
 
 def least_ways(rows, parts):
@@ -118,6 +125,19 @@ def drawn(name, *numbers):
 def even(name, many, begin=0):
     """The text of a draw of so many values, one behind the other."""
     return drawn(name, *range(begin, begin + many))
+
+
+def coins(*names):
+    """The text of draws of 0 and 1."""
+    return "".join(even(name, 2) for name in names)
+
+
+def answered(ask, *some):
+    """What is told, or the name of the refusal's class and its field."""
+    try:
+        return ask(*some)
+    except ValueError as refusal:
+        return (refusal.__class__.__name__, *vars(refusal).values())
 
 
 def part_of(parts, name):
@@ -277,3 +297,219 @@ def plain_nodes(node):
     if node[0] == "leaf":
         return {node}
     return {node}.union(*[plain_nodes(other) for other in node[1]])
+
+
+def strewn_sheets(many, bound=200):
+    """So many sheets of at most so many ways, of several draws, lets of few names, and seen rows of few names."""
+    found = []
+    seed = 0
+    while len(found) < many:
+        sheet = strewn_sheet(random.Random(seed))
+        if least_ways(sheet[1], []) <= bound:
+            found.append(sheet)
+        seed += 1
+    return found
+
+
+def strewn_sheet(chance):
+    """One sheet by a source of chance."""
+    strewer = Strewer(0)
+    strewer.chance = chance
+    left = [f"v{number}" for number in range(12)]
+    chance.shuffle(left)
+    rows = []
+    given = []
+    for kind in ["draw"] + chance.choices(["draw", "let", "seen"], [4, 2, 3], k=chance.randrange(11)):
+        some = chance.sample(given, min(len(given), chance.choice([0, 1, 1, 2, 3])))
+        e = strewer.expression(set(some))
+        if kind == "seen":
+            # most read all of the names, so that several draws are tied
+            for name in some[:chance.randrange(1, 4)]:
+                e = (chance.choice(SIGNS), ("name", name), e)
+            rows.append(("seen", e))
+            continue
+        given.append(left.pop())
+        rows.append((kind, given[-1], strewer.outcomes() if kind == "draw" else e))
+    return ([], rows, chance.sample(given, chance.randrange(1, min(3, len(given)) + 1)))
+
+
+def plain_behind(sheet, names):
+    """The set of draws behind some names of a sheet."""
+    rows = {row[1]: row for row in sheet[1] if row[0] != "seen"}
+    found = set()
+    for name in names:
+        row = rows[name]
+        found |= {name} if row[0] == "draw" else plain_behind(sheet, plain_names(row[2]))
+    return found
+
+
+def plain_ties(sheet):
+    """For each seen row of a sheet the set of draws behind it."""
+    return [plain_behind(sheet, plain_names(row[1])) for row in sheet[1] if row[0] == "seen"]
+
+
+def plain_groups(sheet):
+    """The groups of a sheet, two made one as long as a seen row ties them."""
+    groups = [{row[1]} for row in sheet[1] if row[0] == "draw"]
+    for tie in plain_ties(sheet):
+        touched = [group for group in groups if group & tie]
+        groups = [group for group in groups if not group & tie]
+        if touched:
+            groups.append(set().union(*touched))
+    return sorted(sorted(group) for group in groups)
+
+
+def plain_slice(sheet):
+    """The slice of a sheet, rows taken as long as one is asked for."""
+    told = plain_behind(sheet, sheet[2])
+    near = {draw for group in plain_groups(sheet) if told & set(group) for draw in group}
+    names = set(sheet[2])
+    taken = set()
+    while True:
+        wanted = {
+            place for place, row in enumerate(sheet[1])
+            if (near & plain_behind(sheet, plain_names(row[1])) if row[0] == "seen" else row[1] in names)
+        }
+        if wanted == taken:
+            return ([], [row for place, row in enumerate(sheet[1]) if place in taken], sheet[2])
+        taken = wanted
+        for place in taken:
+            row = sheet[1][place]
+            names |= plain_names(row[-1]) if row[0] != "draw" else set()
+
+
+def plain_walk(rows, names, crowd, parts, counts):
+    """The walk by the document's words: names known and a dict of states behind rows; counts has all lists' lengths."""
+    for row in rows:
+        found = []
+        behind = names | {row[1]} if row[0] in ("draw", "let", "call") else names
+        if row[0] == "rounds":
+            for time in range(row[1]):
+                behind, crowd = plain_walk(row[2], behind, crowd, parts, counts)
+            found = list(crowd.items())
+        elif row[0] == "if":
+            sides = [{}, {}]
+            for state, share in crowd.items():
+                sides[plain_value(row[1], dict(state)) == 0][state] = share
+            first_names, first = plain_walk(row[2], names, sides[0], parts, counts)
+            second_names, second = plain_walk(row[3], names, sides[1], parts, counts)
+            behind = first_names & second_names
+            found = list(first.items()) + list(second.items())
+        else:
+            for state, share in crowd.items():
+                book = dict(state)
+                for more, part_share in plain_states(row, book, parts, counts):
+                    found.append((frozenset({**book, **more}.items()), share * part_share))
+        names = behind
+        crowd = {}
+        for state, share in found:
+            kept = frozenset((name, number) for name, number in state if name in names)
+            crowd[kept] = crowd.get(kept, 0) + share
+        counts.append(len(crowd))
+    return names, crowd
+
+
+def plain_states(row, book, parts, counts):
+    """What a draw, let, seen or call gives to one state: a list of books and shares."""
+    if row[0] == "draw":
+        return [({row[1]: number}, Fraction(*share)) for number, share in row[2]]
+    if row[0] == "let":
+        return [({row[1]: plain_value(row[2], book)}, Fraction(1))]
+    if row[0] == "seen":
+        return [({}, Fraction(1))] if plain_value(row[1], book) else []
+    part = part_of(parts, row[2])
+    inner = frozenset((name, plain_value(e, book)) for name, e in zip(part[1], row[3]))
+    crowd = plain_walk(part[2], set(part[1]), {inner: Fraction(1)}, parts, counts)[1]
+    return [({row[1]: plain_value(part[3], dict(state))}, share) for state, share in crowd.items()]
+
+
+def plain_walked(program):
+    """The table of states, and how many states the longest list has."""
+    counts = [1]
+    names, crowd = plain_walk(program[1], set(), {frozenset(): Fraction(1)}, program[0], counts)
+    in_order = tuple(sorted(names))
+    rows = []
+    for state, share in crowd.items():
+        book = dict(state)
+        rows.append((tuple(book[name] for name in in_order), (share.numerator, share.denominator)))
+    return (in_order, sorted(rows)), max(counts)
+
+
+def plain_tables_most(sheet, order=None):
+    """The least `most` that is not passed by tables: the most choices of a row, or rows of a join."""
+    found, many = plain_kinds(sheet)
+    left = [plain_table(row, found) for row in sheet[1]]
+    if order is None:
+        order = plain_best_order([table[0] for table in left], sheet[2])
+    counts = [many]
+
+    def all_joined(tables):
+        whole = tables[0]
+        for table in tables[1:]:
+            names, shares = plain_joined(whole, table)
+            counts.append(len(shares))
+            whole = plain_pushed(names, shares, [])
+        return whole
+
+    for name in order:
+        having = [table for table in left if name in table[0]]
+        left = [table for table in left if name not in table[0]]
+        names, rows = all_joined(having)
+        shares = dict(plain_joined((names, rows), ((), [((), (1, 1))]))[1])
+        left.append(plain_pushed(names, shares, [name]))
+    all_joined(left)
+    return max(counts)
+
+
+class PlainGraph:
+    """The nodes of a sheet as nested tuples, made of all lists of answers; sizes has those of all nodes made."""
+
+    def __init__(self, sheet):
+        self.draws = [row for row in sheet[1] if row[0] == "draw"]
+        self.counts = [len(row[2]) for row in self.draws]
+        self.books = {}
+        for answers in itertools.product(*[range(count) for count in self.counts]):
+            book = {row[1]: row[2][answer][0] for row, answer in zip(self.draws, answers)}
+            for row in sheet[1]:
+                if row[0] == "let":
+                    book[row[1]] = plain_value(row[2], book)
+            self.books[answers] = book
+        self.sizes = [1]
+        self.seen = ("num", 1)
+        for row in sheet[1]:
+            if row[0] == "draw":
+                self.sizes.append(len(plain_nodes(self.node(("name", row[1])))))
+            else:
+                self.made(row[-1])
+            if row[0] == "seen":
+                self.seen = ("and", self.seen, row[1])
+                self.sizes.append(len(plain_nodes(self.node(self.seen))))
+
+    def node(self, e):
+        return plain_node(lambda answers: plain_value(e, self.books[tuple(answers)]), self.counts)
+
+    def made(self, e):
+        """Measures the nodes of an expression and of its parts."""
+        if e[0] not in ("num", "name"):
+            self.sizes.append(len(plain_nodes(self.node(e))))
+            for side in e[1:]:
+                self.made(side)
+
+    def row_counts(self, tells):
+        """How many rows are left at the begin and behind each question."""
+        rows = {(self.node(self.seen), *[self.node(("name", name)) for name in tells])}
+        counts = []
+        for question in range(-1, len(self.counts)):
+            behind = set()
+            for row in rows:
+                for answer in range(self.counts[question] if question >= 0 else 1):
+                    behind.add(tuple(node[1][answer] if node[0] == question else node for node in row))
+            rows = {row for row in behind if row[0] != ("leaf", 0)}
+            counts.append(len(rows))
+        return counts
+
+
+def plain_graph_most(sheet):
+    """The least `most` that is not passed by the graph."""
+    graph = PlainGraph(sheet)
+    return max(graph.sizes + graph.row_counts(sheet[2]))

@@ -10,64 +10,9 @@ from fairdraw.errors import CannotBe, TooMany
 from fairdraw.reading import read
 from fairdraw.spreading import spread
 from fairdraw.walking import walked
-from helper import drawn, even, plain_node, plain_nodes, plain_rows, plain_shares, plain_value, strewn
+from helper import PlainGraph, drawn, even, plain_graph_most, plain_nodes, plain_rows, plain_shares, strewn
 
 GREAT = 10 ** 60 - 1
-ZERO = ("leaf", 0)
-
-
-class PlainGraph:
-    """The nodes of a sheet as nested tuples, made of all lists of answers; sizes has those of all nodes made."""
-
-    def __init__(self, sheet):
-        self.draws = [row for row in sheet[1] if row[0] == "draw"]
-        self.counts = [len(row[2]) for row in self.draws]
-        self.books = {}
-        for answers in itertools.product(*[range(count) for count in self.counts]):
-            book = {row[1]: row[2][answer][0] for row, answer in zip(self.draws, answers)}
-            for row in sheet[1]:
-                if row[0] == "let":
-                    book[row[1]] = plain_value(row[2], book)
-            self.books[answers] = book
-        self.sizes = [1]
-        self.seen = ("num", 1)
-        for row in sheet[1]:
-            if row[0] == "draw":
-                self.sizes.append(len(plain_nodes(self.node(("name", row[1])))))
-            else:
-                self.made(row[-1])
-            if row[0] == "seen":
-                self.seen = ("and", self.seen, row[1])
-                self.sizes.append(len(plain_nodes(self.node(self.seen))))
-
-    def node(self, e):
-        return plain_node(lambda answers: plain_value(e, self.books[tuple(answers)]), self.counts)
-
-    def made(self, e):
-        """Measures the nodes of an expression and of its parts."""
-        if e[0] not in ("num", "name"):
-            self.sizes.append(len(plain_nodes(self.node(e))))
-            for side in e[1:]:
-                self.made(side)
-
-    def row_counts(self, tells):
-        """How many rows are left at the begin and behind each question."""
-        rows = {(self.node(self.seen), *[self.node(("name", name)) for name in tells])}
-        counts = []
-        for question in range(-1, len(self.counts)):
-            behind = set()
-            for row in rows:
-                for answer in range(self.counts[question] if question >= 0 else 1):
-                    behind.add(tuple(node[1][answer] if node[0] == question else node for node in row))
-            rows = {row for row in behind if row[0] != ZERO}
-            counts.append(len(rows))
-        return counts
-
-
-def plain_most(sheet):
-    """The least `most` that is not passed."""
-    graph = PlainGraph(sheet)
-    return max(graph.sizes + graph.row_counts(sheet[2]))
 
 
 def plain_same(sheet, one, other):
@@ -109,7 +54,7 @@ class GraphCase(unittest.TestCase):
     def check_most(self, text, most):
         """Told with just so many, refused with one less."""
         sheet = read(text)
-        self.assertEqual(plain_most(sheet), most)
+        self.assertEqual(plain_graph_most(sheet), most)
         self.check_least(sheet, most)
 
     def check_least(self, sheet, most):
@@ -270,7 +215,7 @@ class Most(GraphCase):
         for program in strewn(250, 40):
             sheet = spread(program)
             with self.subTest(program=program):
-                self.check_least(sheet, plain_most(sheet))
+                self.check_least(sheet, plain_graph_most(sheet))
 
 
 class Same(GraphCase):

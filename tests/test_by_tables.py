@@ -10,39 +10,11 @@ from fairdraw.kinds import by_tables, kinds, tables_of
 from fairdraw.pushing import best_order
 from fairdraw.reading import read
 from fairdraw.spreading import spread
-from helper import (
-    drawn, even, plain_best_order, plain_joined, plain_kinds, plain_pushed, plain_shares, plain_table, strewn,
-)
+from helper import drawn, even, plain_kinds, plain_shares, plain_tables_most, strewn
 
 
 def names_given(sheet):
     return [row[1] for row in sheet[1] if row[0] != "seen"]
-
-
-def plain_most(sheet, order=None):
-    """The least `most` that is not passed: the most choices of a row, or rows of a join."""
-    found, many = plain_kinds(sheet)
-    left = [plain_table(row, found) for row in sheet[1]]
-    if order is None:
-        order = plain_best_order([table[0] for table in left], sheet[2])
-    counts = [many]
-
-    def all_joined(tables):
-        whole = tables[0]
-        for table in tables[1:]:
-            names, shares = plain_joined(whole, table)
-            counts.append(len(shares))
-            whole = plain_pushed(names, shares, [])
-        return whole
-
-    for name in order:
-        having = [table for table in left if name in table[0]]
-        left = [table for table in left if name not in table[0]]
-        names, rows = all_joined(having)
-        shares = dict(plain_joined((names, rows), ((), [((), (1, 1))]))[1])
-        left.append(plain_pushed(names, shares, [name]))
-    all_joined(left)
-    return max(counts)
 
 
 class TablesCase(unittest.TestCase):
@@ -152,7 +124,7 @@ class Order(TablesCase):
         self.assertEqual(by_tables(sheet, ["h"] + others, 500), expected)
         self.refused(sheet, 6, ["h"] + others, 6)
         self.refused(sheet, 30, ["h"] + others, 30)
-        most = plain_most(sheet, ["h"] + others)
+        most = plain_tables_most(sheet, ["h"] + others)
         self.assertEqual(by_tables(sheet, ["h"] + others, most), expected)
         self.refused(sheet, most - 1, ["h"] + others, most - 1)
 
@@ -164,7 +136,7 @@ class Order(TablesCase):
                 scopes = [list(table[0]) for table in tables_of(sheet)]
                 order = best_order(scopes, sheet[2])
                 self.assertEqual(sorted(order + sheet[2]), sorted(names_given(sheet)))
-                most = plain_most(sheet)
+                most = plain_tables_most(sheet)
                 self.assertEqual(by_tables(sheet, None, most), by_tables(sheet, order, most))
                 self.assertEqual(by_tables(sheet, None, most), plain_shares(sheet))
                 self.refused(sheet, most - 1, None, most - 1)
@@ -174,7 +146,7 @@ class Order(TablesCase):
             sheet = spread(program)
             if plain_kinds(sheet)[1] > 300:
                 continue
-            most = plain_most(sheet)
+            most = plain_tables_most(sheet)
             with self.subTest(program=program):
                 expected = plain_shares(sheet)
                 if expected is None:

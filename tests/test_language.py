@@ -241,6 +241,42 @@ class Uses(unittest.TestCase):
                         self.assertIn(keyword.arg, KEYWORDS.get(called_name(node), ()), (path, node.lineno))
 
 
+    def test_classes_are_called_or_stood_under(self):
+        classes = {node.name for path, tree in trees() for node in tree.body if isinstance(node, ast.ClassDef)}
+        for path, tree in trees():
+            above = parents(tree)
+            for node in ast.walk(tree):
+                if isinstance(node, ast.Name) and node.id in classes:
+                    parent = above[node]
+                    where = (path.name, node.lineno)
+                    if isinstance(parent, ast.Call) and parent.func is not node:
+                        self.assertEqual((called_name(parent), parent.args[1]), ("isinstance", node), where)
+                    elif isinstance(parent, ast.Attribute):
+                        self.assertEqual(parent.attr, "__init__", where)
+                    else:
+                        self.assertIsInstance(parent, (ast.Call, ast.ClassDef, ast.ExceptHandler), where)
+
+    def test_lists_and_dicts_of_a_file_s_top_are_only_read(self):
+        for path, tree in trees():
+            above = parents(tree)
+            kept = {}
+            for node in tree.body:
+                if isinstance(node, ast.Assign) and isinstance(node.value, (ast.List, ast.Dict)):
+                    kept[node.targets[0].id] = node
+                    inner = [child for child in ast.walk(node.value) if isinstance(child, (ast.List, ast.Dict))]
+                    self.assertEqual(inner, [node.value], (path, node.lineno))
+            for node in ast.walk(tree):
+                if isinstance(node, ast.Name) and node.id in kept and above[node] is not kept[node.id]:
+                    parent = above[node]
+                    where = (path.name, node.lineno)
+                    if isinstance(parent, ast.Attribute):
+                        self.assertEqual(parent.attr, "get", where)
+                    elif isinstance(parent, ast.Subscript):
+                        self.assertIsInstance(parent.ctx, ast.Load, where)
+                    else:
+                        self.assertIsInstance(parent, (ast.Compare, ast.For, ast.comprehension), where)
+
+
 class Names(unittest.TestCase):
     def test_python_s_own_names(self):
         for path, tree in trees():

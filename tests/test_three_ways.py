@@ -5,33 +5,23 @@ import unittest
 from fractions import Fraction
 
 from fairdraw.asking import by_graph
-from fairdraw.errors import CannotBe, TooMany
 from fairdraw.kinds import by_tables
 from fairdraw.looking import look
 from fairdraw.reading import read
 from fairdraw.spreading import spread
 from fairdraw.walking import walked
-from helper import even, plain_shares, strewn
+from helper import answered, even, plain_shares, strewn
 
 MOST = 10 ** 6
-
-
-def told_or_refused(ask, *some):
-    """What is told, or the word of the refusal."""
-    try:
-        return ask(*some)
-    except CannotBe:
-        return "cannot be"
-    except TooMany as refusal:
-        return ("too many", refusal.most)
+CANNOT_BE = ("CannotBe",)
 
 
 def all_ways(program, most):
     """What the walk of a program, and the walk, the tables and the graph of its sheet tell."""
     sheet = spread(program)
     return [
-        told_or_refused(walked, program, most), told_or_refused(walked, sheet, most),
-        told_or_refused(by_tables, sheet, None, most), told_or_refused(by_graph, sheet, most),
+        answered(walked, program, most), answered(walked, sheet, most),
+        answered(by_tables, sheet, None, most), answered(by_graph, sheet, most),
     ]
 
 
@@ -48,9 +38,9 @@ class ThreeWays(unittest.TestCase):
             kept = copy.deepcopy(program)
             with self.subTest(program=program):
                 found = all_ways(program, MOST)
-                self.assertEqual(found, [plain_shares(program) or "cannot be"] * 4)
+                self.assertEqual(found, [plain_shares(program) or CANNOT_BE] * 4)
                 self.assertEqual(program, kept)
-                if found[0] == "cannot be":
+                if found[0] == CANNOT_BE:
                     cannot_be += 1
                 else:
                     self.assertEqual(sum(Fraction(*share) for numbers, share in found[0]), 1)
@@ -61,11 +51,11 @@ class ThreeWays(unittest.TestCase):
     def test_refusals_stand_in_the_place_of_either(self):
         refused = 0
         for program in strewn(200):
-            expected = plain_shares(program) or "cannot be"
+            expected = plain_shares(program) or CANNOT_BE
             for most in (1, 3, 9):
                 for found in all_ways(program, most):
                     with self.subTest(program=program, most=most):
-                        self.assertIn(found, [expected, ("too many", most)])
+                        self.assertIn(found, [expected, ("TooMany", most)])
                         refused += found != expected
         self.assertGreater(refused, 100)
 
@@ -97,7 +87,7 @@ class ThreeWays(unittest.TestCase):
         ):
             program = read(text)
             look(program)
-            self.assertEqual(all_ways(program, MOST), ["cannot be"] * 4)
+            self.assertEqual(all_ways(program, MOST), [CANNOT_BE] * 4)
 
 
 if __name__ == "__main__":

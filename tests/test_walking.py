@@ -9,70 +9,13 @@ from fairdraw.looking import known, look, ways
 from fairdraw.reading import read
 from fairdraw.spreading import spread
 from fairdraw.walking import states, walked
-from helper import even, part_of, plain_shares, plain_value, strewn
+from helper import even, plain_shares, plain_walked, strewn
 
 GREAT = 10 ** 60 - 1
 
 
 def pair(share):
     return (share.numerator, share.denominator)
-
-
-def plain_walk(rows, names, crowd, parts, counts):
-    """The walk by the document's words: names known and a dict of states behind rows; counts has all lists' lengths."""
-    for row in rows:
-        found = []
-        behind = names | {row[1]} if row[0] in ("draw", "let", "call") else names
-        if row[0] == "rounds":
-            for time in range(row[1]):
-                behind, crowd = plain_walk(row[2], behind, crowd, parts, counts)
-            found = list(crowd.items())
-        elif row[0] == "if":
-            sides = [{}, {}]
-            for state, share in crowd.items():
-                sides[plain_value(row[1], dict(state)) == 0][state] = share
-            first_names, first = plain_walk(row[2], names, sides[0], parts, counts)
-            second_names, second = plain_walk(row[3], names, sides[1], parts, counts)
-            behind = first_names & second_names
-            found = list(first.items()) + list(second.items())
-        else:
-            for state, share in crowd.items():
-                book = dict(state)
-                for more, part_share in plain_states(row, book, parts, counts):
-                    found.append((frozenset({**book, **more}.items()), share * part_share))
-        names = behind
-        crowd = {}
-        for state, share in found:
-            kept = frozenset((name, number) for name, number in state if name in names)
-            crowd[kept] = crowd.get(kept, 0) + share
-        counts.append(len(crowd))
-    return names, crowd
-
-
-def plain_states(row, book, parts, counts):
-    """What a draw, let, seen or call gives to one state: a list of books and shares."""
-    if row[0] == "draw":
-        return [({row[1]: number}, Fraction(*share)) for number, share in row[2]]
-    if row[0] == "let":
-        return [({row[1]: plain_value(row[2], book)}, Fraction(1))]
-    if row[0] == "seen":
-        return [({}, Fraction(1))] if plain_value(row[1], book) else []
-    part = part_of(parts, row[2])
-    inner = frozenset((name, plain_value(e, book)) for name, e in zip(part[1], row[3]))
-    crowd = plain_walk(part[2], set(part[1]), {inner: Fraction(1)}, parts, counts)[1]
-    return [({row[1]: plain_value(part[3], dict(state))}, share) for state, share in crowd.items()]
-
-
-def plain_table(program):
-    """The table of states, and how many states the longest list has."""
-    counts = [1]
-    names, crowd = plain_walk(program[1], set(), {frozenset(): Fraction(1)}, program[0], counts)
-    in_order = tuple(sorted(names))
-    rows = []
-    for state, share in crowd.items():
-        book = dict(state)
-        rows.append((tuple(book[name] for name in in_order), pair(share)))
-    return (in_order, sorted(rows)), max(counts)
 
 
 class WalkCase(unittest.TestCase):
@@ -108,7 +51,7 @@ class WalkCase(unittest.TestCase):
         """It is told with just so many states, and refused with one less."""
         program = read(text)
         look(program)
-        expected = plain_table(program)
+        expected = plain_walked(program)
         self.assertEqual(expected[1], most)
         self.assertEqual(states(program, most), expected[0])
         self.assertEqual(walked(program, most), plain_shares(program))
@@ -218,7 +161,7 @@ class AlikeBecomeOne(WalkCase):
         for program in strewn(400):
             with self.subTest(program=program):
                 kept = copy.deepcopy(program)
-                table, many = plain_table(program)
+                table, many = plain_walked(program)
                 self.assertEqual(states(program, many), table)
                 self.assertEqual(table[0], tuple(known(program[1], [])))
                 if many > 1:
