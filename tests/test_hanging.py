@@ -278,18 +278,17 @@ def products(parts):
 
 
 class FreeInTheShares(unittest.TestCase):
-    def check(self, sheet, names):
-        table = states(sheet, 10 ** 6)
+    def check(self, table, names):
         together = shares(table, names)
         self.assertEqual(together, products([shares(table, [name]) for name in names]))
 
     def test_by_hand(self):
         text = coins("a", "b", "c", "d", "e") + "let x = a + b\nlet y = c + d\nseen x\nseen c < d or e\nlet z = 4\n"
         sheet = read(text + "tell x")
-        for one, other in itertools.combinations("xyz", 2):
-            self.assertIs(free(sheet, one, other), True)
-        self.check(sheet, ["x", "y", "z"])
-        self.check(sheet, ["z", "a", "e"])
+        for some in ("xyz", "zae"):
+            for one, other in itertools.combinations(some, 2):
+                self.assertIs(free(sheet, one, other), True)
+            self.check(states(sheet), list(some))
 
     def test_strewn(self):
         counts = {2: 0, 3: 0, 4: 0}
@@ -304,7 +303,7 @@ class FreeInTheShares(unittest.TestCase):
                 for some in itertools.islice(itertools.combinations(names, many), 60):
                     if all(pair in free_pairs for pair in itertools.combinations(some, 2)):
                         with self.subTest(sheet=sheet, some=some):
-                            self.check(sheet, list(some))
+                            self.check(table, list(some))
                         counts[many] += 1
         self.assertGreater(min(counts.values()), 50)
 
